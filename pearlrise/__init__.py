@@ -1,0 +1,1 @@
+"""Pearlrise: pearls strung so that they rise to the middle."""

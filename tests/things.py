@@ -1,0 +1,30 @@
+"""Things of many kinds, for what is refused or told False whatever it is."""
+
+
+class Keyless:
+    """An object that cannot be a key of a dict."""
+
+    __hash__ = None
+
+
+def others():
+    """Things that are no whole number, no text and no truth."""
+    return [None, 2.0, 2.5, float("nan"), 2j, b"", b"ab", (), (1,), ("ab",), [], [1], ["ab"], {}, {"ab": 1},
+            {1, 2}, object(), Keyless(), len, int, Keyless]
+
+
+def no_wholes():
+    """Things that are no whole number."""
+    return [True, False, "", "1", "12", "ab"] + others()
+
+
+def no_names():
+    """Things that are no name."""
+    texts = ["", " ", "\n", "abcdefghi", "a" * 40, "Ab", "aB", "a1", "1", "a b", " ab", "ab ", "ab\n", "\nab",
+             "a-b", "a_b", "a.b", "\u00e4b", "a\u00df", "\uff41b", "\u0430b", "a`", "{a"]
+    return [True, False, 0, 1, 12] + texts + others()
+
+
+def no_truths():
+    """Things that are no truth."""
+    return [0, 1, 2, -1, "", "True", "False", "ab"] + others()
