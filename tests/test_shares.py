@@ -122,6 +122,16 @@ class Shown(unittest.TestCase):
         self.assertEqual(str(Share(-1, GREATEST)), f"-1/{GREATEST}")
         self.assertEqual(repr(Share(1, GREATEST)), f"Share(1, {GREATEST})")
 
+    def test_what_comes_of_reckoning_may_be_greater_than_python_shows(self):
+        great = Share(1)
+        for turn in range(60):
+            great = great.times(Share(-(10 ** 79)))
+        great = great.minus(Share(1, 2))
+        text = "1" + "9" * 4740
+        self.assertEqual(str(Share(1).minus(great.plus(Share(1, 2)))), "-" + "9" * 4740)
+        self.assertEqual(str(great), text + "/2")
+        self.assertEqual(repr(great), f"Share({text}, 2)")
+
     def test_repr_makes_it_again(self):
         for num, over in SMALL:
             share = Share(num, over)
