@@ -1,4 +1,6 @@
-"""Things of many kinds, for what is refused or told False whatever it is."""
+"""Things of many kinds, for what is refused or told False whatever it is, and beads by chance."""
+
+from pearlrise.beads import Bead
 
 
 class Keyless:
@@ -28,3 +30,19 @@ def no_names():
 def no_truths():
     """Things that are no truth."""
     return [0, 1, 2, -1, "", "True", "False", "ab"] + others()
+
+
+def fields_of(bead):
+    """What a bead is made of, None of a gap."""
+    return None if bead is None else bead.row()
+
+
+def beads_rising(chance, many, apart=2, jitter=1, looks=2):
+    """So many beads of numbers from 1 on, whose across stand in steps, so that some of them are partners."""
+    told = []
+    for number in chance.sample(range(1, many + 6), many):
+        across = 1 + apart * chance.randrange(1, 5) + chance.randrange(jitter + 1)
+        look = chance.randrange(looks)
+        told.append(Bead(number, across, chance.randrange(1, 6), ["rose", "grey"][look],
+                         chance.choice(["round"] * 6 + ["oval"]), chance.random() < 0.15))
+    return told
