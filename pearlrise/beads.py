@@ -1,7 +1,7 @@
 """Beads: how they are made, compared, put in order, shown and counted."""
 
 from pearlrise.errors import BadBead
-from pearlrise.words import is_name, is_number, is_whole
+from pearlrise.words import is_int, is_name, is_number, is_whole
 
 GREATEST_MEASURE = 1000000
 ROW_LENGTH = 6
@@ -82,3 +82,11 @@ def unlike(beads):
 def how_many(beads, bead):
     """How many of the beads equal a bead."""
     return beads.count(bead)
+
+
+def are_once(numbers, by_number):
+    """Whether all things of a list are numbers of the beads, none of them twice."""
+    # A truth equals a number, and some things can't be looked for among keys, so kinds are asked first.
+    if not all([is_int(number) and number in by_number for number in numbers]):
+        return False
+    return len(set(numbers)) == len(numbers)
