@@ -9,6 +9,13 @@ class Keyless:
     __hash__ = None
 
 
+class Alike:
+    """An object that equals whatever it is held against."""
+
+    def __eq__(self, other):
+        return True
+
+
 def others():
     """Things that are no whole number, no text and no truth."""
     return [None, 2.0, 2.5, float("nan"), 2j, b"", b"ab", (), (1,), ("ab",), [], [1], ["ab"], {}, {"ab": 1},
@@ -46,3 +53,20 @@ def beads_rising(chance, many, apart=2, jitter=1, looks=2):
         told.append(Bead(number, across, chance.randrange(1, 6), ["rose", "grey"][look],
                          chance.choice(["round"] * 6 + ["oval"]), chance.random() < 0.15))
     return told
+
+
+def stock_told(stock):
+    """All that a stock tells, in plain tuples, lists and dicts."""
+    numbers = [bead.number for bead in stock.beads()]
+    return {"lots": stock.lots(), "of": {lot: stock.of(lot) for lot in stock.lots()}, "strings": stock.strings(),
+            "string": {name: stock.string(name) for name in stock.strings()}, "aside": stock.aside(),
+            "sold": stock.sold(), "beads": [bead.row() for bead in stock.beads()], "moves": stock.moves(),
+            "bead": {number: stock.bead(number).row() for number in numbers},
+            "where": {number: stock.where(number) for number in numbers}}
+
+
+def fields_in(error):
+    """The fields of a refusal by their names, but for why of those of which the document tells none."""
+    names = {"NotLet": ["at", "why"], "TooLate": ["at"], "BadText": ["line"], "NoSuch": ["kind", "name"],
+             "NoPlace": ["at"], "Elsewhere": ["number", "place"], "Known": ["kind", "name"], "NoShare": ["num"]}
+    return [getattr(error, name) for name in names.get(type(error).__name__, [])]
