@@ -338,8 +338,8 @@ class ChainDeeds(unittest.TestCase):
         for thing in no_wholes() + [11, (11, 13), "11 13", {11: 13}, {11, 13}, [[11, 13]], [(11, 13)], [11, [13]],
                                     [[11], 13], [11, "13"], ["11", 13], [11, None], [None, 13], [11, 13.0],
                                     [11.0, 13], [True], [11, True], [True, 13], [{}], [11, {}], [Keyless()],
-                                    [Keyless(), 13], [11, Keyless()], Keyless(), [11, {13}], Alike(), [Alike()], [11, Alike()],
-                                    [Alike(), 13]]:
+                                    [Keyless(), 13], [11, Keyless()], Keyless(), [11, {13}], Alike(), [Alike()],
+                                    [11, Alike()], [Alike(), 13]]:
             self.bad(stock, "g", 0, thing)
 
     def test_a_truth_is_no_number(self):

@@ -301,8 +301,8 @@ class BarsFewer(unittest.TestCase):
     def wrong_rows(self):
         """Things that are no rows of a paper for the gap g 0, where a has 11 -, b 13 14, c - 16, e nothing but gaps."""
         right = ("b", 0, ("a", "b"))
-        told = [right[:2], right + (1,), (), ("b",), list(right), [list(right)], "b", "b 0 a b", {right: 1}, {}, {right},
-                (right,), right[::-1], (0, "b", ("a", "b")), ("b", "0", ("a", "b")), ("b", None, ("a", "b")),
+        told = [right[:2], right + (1,), (), ("b",), list(right), [list(right)], "b", "b 0 a b", {right: 1}, {},
+                {right}, (right,), right[::-1], (0, "b", ("a", "b")), ("b", "0", ("a", "b")), ("b", None, ("a", "b")),
                 ("b", True, ("b",)), ("b", False, ("a", "b")), ("b", 0.0, ("a", "b")), ("b", [0], ("b",)),
                 (None, 0, ()), ([], 0, ("b",)), ({}, 0, ()), (Keyless(), 0, ()), ("b", Keyless(), ("b",)),
                 ("b", 0, Keyless()), ("b", 0, None), ("b", 0, "b"), ("b", 0, ["a", "b"]), ("b", 0, {"b"}),

@@ -174,6 +174,24 @@ class Language(unittest.TestCase):
                     self.assertIsInstance(right, ast.Constant, name)
                     self.assertIn(right.value, (None, True, False), name)
 
+    def test_module_level_is_plain(self):
+        for name, tree in trees():
+            for at, node in enumerate(tree.body):
+                if at == 0:
+                    self.assertIsInstance(node.value, ast.Constant, name)
+                else:
+                    self.assertIsInstance(node, (ast.ImportFrom, ast.FunctionDef, ast.ClassDef, ast.Assign), name)
+                if isinstance(node, ast.Assign):
+                    self.assertFalse([part for part in ast.walk(node) if isinstance(part, ast.Call)], name)
+
+    def test_errors_are_own_and_raised_on_the_spot(self):
+        own = set(defined(dict(trees())["errors"]))
+        for name, node in all_of(ast.ExceptHandler):
+            kinds = node.type.elts if isinstance(node.type, ast.Tuple) else [node.type]
+            self.assertEqual({kind.id for kind in kinds} - own, set(), name)
+        for name, node in all_of(ast.Raise):
+            self.assertIn(node.exc.func.id, own, name)
+
     def test_shown_and_compared_without_changes(self):
         for name, node in all_of(ast.FunctionDef):
             if node.name in ("__eq__", "__repr__", "__str__", "__len__"):
